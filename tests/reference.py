@@ -1,4 +1,6 @@
-"""Points 3 to 6 told word by word, place by place: slow, and in no way like the program."""
+"""Points 3 to 7 and 9 to 11 told word by word, place by place: slow, and in no way like the program."""
+
+import itertools
 
 EAST = "abcdefghijklmnopqrstuvwxyz"
 WEST = "ABCDEFGHIJKLMNOPQRSTUVWXYZ"
@@ -85,3 +87,48 @@ def levels(text, base):
             level = min(n for n in (level, level + 1) if even(n))
         told.append(level)
     return told
+
+
+def order(levels):
+    """Turn the places as they stand by then, not as they were written."""
+    standing = list(enumerate(levels))
+    for least in range(max([0] + levels), 0, -1):
+        turned = []
+        for high, group in itertools.groupby(standing, lambda one: one[1] >= least):
+            row = list(group)
+            turned += row[::-1] if high else row
+        standing = turned
+    return [place for place, _ in standing]
+
+
+def seen_at(levels):
+    seen = order(levels)
+    return [seen.index(place) for place in range(len(levels))]
+
+
+def view(text, base):
+    return "".join(text[place] for place in order(levels(text, base)))
+
+
+def pieces(levels, first, behind):
+    seen = set(seen_at(levels)[first:behind])
+    firsts = [v for v in sorted(seen) if v - 1 not in seen]
+    lasts = [v for v in sorted(seen) if v + 1 not in seen]
+    return [(v, last + 1) for v, last in zip(firsts, lasts)]
+
+
+def carets(levels):
+    begins, ends = {}, {}
+    for place, seen in enumerate(seen_at(levels)):
+        left, right = seen, seen + 1
+        begins[place], ends[place] = (left, right) if even(levels[place]) else (right, left)
+    return [(ends.get(p - 1), begins.get(p)) for p in range(len(levels) + 1)]
+
+
+def lines(levels, cuts):
+    told = [[]]
+    for place in range(len(levels)):
+        if place in cuts:
+            told.append([])
+        told[-1].append(place)
+    return [[places[k] for k in order([levels[p] for p in places])] for places in told]

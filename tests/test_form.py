@@ -1,6 +1,7 @@
 """The rules of form that can be seen in the package's files."""
 
 import ast
+import builtins
 import pathlib
 import re
 import unittest
@@ -62,6 +63,38 @@ class Form(unittest.TestCase):
         for name, node in self.nodes(ast.Name, ast.arg, ast.FunctionDef, ast.ClassDef):
             word = getattr(node, "id", None) or getattr(node, "arg", None) or node.name
             self.assertRegex(word, r"\A([A-Za-z]\w*|__init__)\Z", name)
+
+    def test_parameters_and_locals_are_not_called_like_imports_classes_or_pythons_own(self):
+        for path, tree in self.trees.items():
+            taken = set(dir(builtins))
+            for row in tree.body:
+                if isinstance(row, ast.ImportFrom):
+                    taken.update(alias.asname or alias.name for alias in row.names)
+                elif isinstance(row, ast.ClassDef):
+                    taken.add(row.name)
+            for node in ast.walk(tree):
+                if isinstance(node, ast.arg):
+                    self.assertNotIn(node.arg, taken, path.name)
+                elif isinstance(node, ast.Name) and isinstance(node.ctx, ast.Store):
+                    self.assertNotIn(node.id, taken, path.name)
+
+    def test_each_name_is_drawn_from_the_file_that_defines_it(self):
+        defined = {}
+        for path, tree in self.trees.items():
+            found = [row.name for row in tree.body if isinstance(row, (ast.FunctionDef, ast.ClassDef))]
+            defined["turnscript." + path.stem] = found
+        for name, node in self.nodes(ast.ImportFrom):
+            for alias in node.names:
+                self.assertIn(alias.name, defined[node.module], name)
+
+    def test_no_two_files_draw_from_one_another(self):
+        left = {"turnscript." + path.stem: {row.module for row in tree.body if isinstance(row, ast.ImportFrom)}
+                for path, tree in self.trees.items()}
+        while left:
+            ready = [name for name, drawn in left.items() if not drawn & set(left)]
+            self.assertTrue(ready, left)
+            for name in ready:
+                del left[name]
 
 
 if __name__ == "__main__":

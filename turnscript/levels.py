@@ -71,7 +71,8 @@ def sign_level(sign, side, ground):
     return level
 
 
-def levels(text, base):
+# Files whose functions take levels as a parameter draw this name, which can't be mistaken for it.
+def sign_levels(text, base):
     """Tell the level of each sign."""
     found = grounds(text, base)
     numbers = stretches(text, base)
@@ -79,3 +80,8 @@ def levels(text, base):
     for sign, side, number in zip(text, sides(text, base), numbers):
         told.append(sign_level(sign, side, found[number]))
     return told
+
+
+def levels(text, base):
+    """Tell the level of each sign."""
+    return sign_levels(text, base)

@@ -247,7 +247,6 @@ class WhatIsHandedInAndTold(unittest.TestCase):
                 first[0] = "changed"
                 self.assertEqual(second, kept)
                 self.assertEqual(tell(row), kept)
-                self.assertEqual(view("aB", 0), "aB")
 
 
 if __name__ == "__main__":
